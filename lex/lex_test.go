@@ -9,6 +9,7 @@ import (
 
 	"gristmill/api"
 	"gristmill/lex"
+	"gristmill/texts"
 )
 
 func wantWords(t *testing.T, s string, want ...lex.Word) {
@@ -75,25 +76,9 @@ func TestWordsOfEachByte(t *testing.T) {
 	}
 }
 
-// allTexts is each text of at most n bytes of those of alphabet.
-func allTexts(alphabet string, n int) []string {
-	l := []string{""}
-	from := 0
-	for range n {
-		to := len(l)
-		for _, s := range l[from:to] {
-			for i := range len(alphabet) {
-				l = append(l, s+alphabet[i:i+1])
-			}
-		}
-		from = to
-	}
-	return l
-}
-
 func TestWordsOfAllShortTexts(t *testing.T) {
 	piece := regexp.MustCompile(`;[^\n]*|[ \t\n\r]+|[()]|[^() \t\n\r;]+`)
-	for _, s := range allTexts("a\xff(); \t\n\r", 5) {
+	for _, s := range texts.All("a\xff(); \t\n\r", 5) {
 		var want []lex.Word
 		for _, p := range piece.FindAllStringIndex(s, -1) {
 			if text := s[p[0]:p[1]]; strings.Trim(text, " \t\n\r") != "" && text[0] != ';' {

@@ -5,6 +5,7 @@ import (
 	"testing"
 
 	"gristmill/lex"
+	"gristmill/texts"
 )
 
 func wantNames(t *testing.T, s string, name, upper bool) {
@@ -91,7 +92,7 @@ func TestNamesOfAllShortWords(t *testing.T) {
 	for _, s := range reserved() {
 		kept[s] = true
 	}
-	for _, s := range allTexts("abcdefghijklmnopqrstuvwxyz", 4)[1:] {
+	for _, s := range texts.All("abcdefghijklmnopqrstuvwxyz", 4)[1:] {
 		if lex.Name(s) == kept[s] || lex.Upper(s) {
 			t.Fatalf("%q: Name %v, Upper %v", s, lex.Name(s), lex.Upper(s))
 		}

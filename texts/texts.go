@@ -1,0 +1,18 @@
+// Package texts: texts that the tests of several layers try.
+package texts
+
+// All is each text of at most n bytes of those of alphabet, the shorter ones first.
+func All(alphabet string, n int) []string {
+	l := []string{""}
+	from := 0
+	for range n {
+		to := len(l)
+		for _, s := range l[from:to] {
+			for i := range len(alphabet) {
+				l = append(l, s+alphabet[i:i+1])
+			}
+		}
+		from = to
+	}
+	return l
+}
