@@ -1,0 +1,97 @@
+package free_test
+
+import (
+	"testing"
+
+	"gristmill/api"
+)
+
+func v(name string) api.Expr { return api.Expr{Op: api.Var, Name: name} }
+
+func app(l ...api.Expr) api.Expr { return api.Expr{Op: api.App, L: l} }
+
+func fn(e api.Expr, names ...string) api.Expr {
+	return api.Expr{Op: api.Fn, Names: names, L: []api.Expr{e}}
+}
+
+// let is of the names, each of which is what stands at its place in l, all in the last of l.
+func let(names []string, l ...api.Expr) api.Expr {
+	return api.Expr{Op: api.Let, Names: names, L: l}
+}
+
+func cases(e api.Expr, alts ...api.Alt) api.Expr {
+	return api.Expr{Op: api.Case, L: []api.Expr{e}, Alts: alts}
+}
+
+func ofCon(e api.Expr, names ...string) api.Alt {
+	return api.Alt{Take: api.TakeCon, Name: "C", Names: names, E: e}
+}
+
+func ofInt(e api.Expr) api.Alt { return api.Alt{Take: api.TakeInt, N: 1, E: e} }
+
+func ofAny(e api.Expr) api.Alt { return api.Alt{Take: api.TakeAny, E: e} }
+
+// unary is ways to make an expression of one.
+func unary() []func(api.Expr) api.Expr {
+	return []func(api.Expr) api.Expr{
+		func(e api.Expr) api.Expr { return fn(e, "x") },
+		func(e api.Expr) api.Expr { return fn(e, "y", "x") },
+		func(e api.Expr) api.Expr { return let([]string{"x"}, e, v("y")) },
+		func(e api.Expr) api.Expr {
+			return api.Expr{Op: api.Prim, Name: "+", L: []api.Expr{e, v("x")}}
+		},
+	}
+}
+
+// binary is ways to make an expression of two.
+func binary() []func(a, b api.Expr) api.Expr {
+	return []func(a, b api.Expr) api.Expr{
+		func(a, b api.Expr) api.Expr { return app(a, b) },
+		func(a, b api.Expr) api.Expr { return let([]string{"y"}, a, b) },
+		func(a, b api.Expr) api.Expr { return let([]string{"x", "w"}, v("w"), a, b) },
+		func(a, b api.Expr) api.Expr { return cases(a, ofCon(b, "x"), ofAny(v("x"))) },
+		func(a, b api.Expr) api.Expr { return cases(v("y"), ofInt(a), ofCon(b), ofCon(a, "w", "y")) },
+	}
+}
+
+// grow is all expressions of each size up to n: one that has others is one larger than all of them.
+func grow(n int) [][]api.Expr {
+	l := [][]api.Expr{nil, {v("x"), v("y"), v("w"), {Op: api.Con, Name: "C"}}}
+	for size := 2; size <= n; size++ {
+		var of []api.Expr
+		for _, e := range l[size-1] {
+			for _, f := range unary() {
+				of = append(of, f(e))
+			}
+		}
+		for k := 1; k < size-1; k++ {
+			for _, a := range l[k] {
+				for _, b := range l[size-1-k] {
+					for _, f := range binary() {
+						of = append(of, f(a, b))
+					}
+				}
+			}
+		}
+		l = append(l, of)
+	}
+	return l
+}
+
+func TestAllSmallExpressions(t *testing.T) {
+	by := fn(app(v("x"), v("y"), v("z")), "y")
+	n := 0
+	for _, l := range grow(4) {
+		for _, e := range l {
+			hold(t, e, by, "x", "y", "w", "C", "+", "")
+			n++
+		}
+	}
+	for _, e := range grow(5)[5] {
+		hold(t, e, by, "x")
+		n++
+	}
+	if n < 10000 {
+		t.Error(n)
+	}
+}
