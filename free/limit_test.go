@@ -170,7 +170,7 @@ func endless() (l []api.Expr) {
 	}
 	names := slices.Repeat([]string{"x", "y"}, 1<<16)
 	bound, taken := fn(v("x"), names...), cases(v("x"), ofCon(v("x"), names...))
-	for range 60 {
+	for range 18 {
 		bound, taken = app(bound, bound), app(taken, taken)
 	}
 	long := v(strings.Repeat("x", 1<<20))
