@@ -16,3 +16,15 @@ func All(alphabet string, n int) []string {
 	}
 	return l
 }
+
+// Altered is s with each of the pieces in place of what stands there, at each place, be it nothing or up to n bytes.
+func Altered(s string, n int, pieces ...string) (l []string) {
+	for from := range len(s) + 1 {
+		for to := from; to <= min(from+n, len(s)); to++ {
+			for _, piece := range pieces {
+				l = append(l, s[:from]+piece+s[to:])
+			}
+		}
+	}
+	return l
+}

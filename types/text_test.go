@@ -135,12 +135,8 @@ func TestParseOfAlteredTexts(t *testing.T) {
 	var c counts
 	pieces := []string{"", "(", ")", " ", "->", "a", "L", "fn", "1", "_", ";", "\t", "(-> ", "(L ", " b", ") (", "+"}
 	for _, s := range []string{"(P (L a) (-> b Int))", "(-> (-> a b) (-> (L a) (T b c d)))", "(T A (P q_1 (L (L x))) a)", "(L a)", "x"} {
-		for from := range len(s) + 1 {
-			for to := from; to <= min(from+4, len(s)); to++ {
-				for _, piece := range pieces {
-					c.hold(t, s[:from]+piece+s[to:])
-				}
-			}
+		for _, altered := range texts.Altered(s, 4, pieces...) {
+			c.hold(t, altered)
 		}
 	}
 	if c.right < 500 || c.wrong < 5000 {
