@@ -4,6 +4,7 @@ import (
 	"testing"
 
 	"gristmill/api"
+	"gristmill/exprs"
 )
 
 func v(name string) api.Expr { return api.Expr{Op: api.Var, Name: name} }
@@ -54,40 +55,17 @@ func binary() []func(a, b api.Expr) api.Expr {
 	}
 }
 
-// grow is all expressions of each size up to n: one that has others is one larger than all of them.
-func grow(n int) [][]api.Expr {
-	l := [][]api.Expr{nil, {v("x"), v("y"), v("w"), {Op: api.Con, Name: "C"}}}
-	for size := 2; size <= n; size++ {
-		var of []api.Expr
-		for _, e := range l[size-1] {
-			for _, f := range unary() {
-				of = append(of, f(e))
-			}
-		}
-		for k := 1; k < size-1; k++ {
-			for _, a := range l[k] {
-				for _, b := range l[size-1-k] {
-					for _, f := range binary() {
-						of = append(of, f(a, b))
-					}
-				}
-			}
-		}
-		l = append(l, of)
-	}
-	return l
-}
-
 func TestAllSmallExpressions(t *testing.T) {
+	small := exprs.Grow(5, []api.Expr{v("x"), v("y"), v("w"), {Op: api.Con, Name: "C"}}, unary(), binary())
 	by := fn(app(v("x"), v("y"), v("z")), "y")
 	n := 0
-	for _, l := range grow(4) {
+	for _, l := range small[:5] {
 		for _, e := range l {
 			hold(t, e, by, "x", "y", "w", "C", "+", "")
 			n++
 		}
 	}
-	for _, e := range grow(5)[5] {
+	for _, e := range small[5] {
 		hold(t, e, by, "x")
 		n++
 	}

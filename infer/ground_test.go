@@ -5,6 +5,7 @@ import (
 	"testing"
 
 	"gristmill/api"
+	"gristmill/exprs"
 	"gristmill/infer"
 	"gristmill/types"
 )
@@ -155,7 +156,7 @@ func TestTheTypeIsTheMostGeneral(t *testing.T) {
 		},
 	}
 	has, hasNot, beside := 0, 0, 0
-	for _, l := range grow(4, []api.Expr{v("x"), v("y"), {Op: api.Int, N: 1}, none}, unary, binary) {
+	for _, l := range exprs.Grow(4, []api.Expr{v("x"), v("y"), {Op: api.Int, N: 1}, none}, unary, binary) {
 		for _, e := range l {
 			most, err := infer.Expr(p, fn(e, "x", "y"))
 			for i, x := range g.few {

@@ -4,31 +4,8 @@ import (
 	"testing"
 
 	"gristmill/api"
+	"gristmill/exprs"
 )
-
-// grow is all expressions of each size up to n: one that has others is one larger than all of them.
-func grow(n int, leaves []api.Expr, unary []func(api.Expr) api.Expr, binary []func(a, b api.Expr) api.Expr) [][]api.Expr {
-	l := [][]api.Expr{nil, leaves}
-	for size := 2; size <= n; size++ {
-		var of []api.Expr
-		for _, a := range l[size-1] {
-			for _, f := range unary {
-				of = append(of, f(a))
-			}
-		}
-		for k := 1; k < size-1; k++ {
-			for _, a := range l[k] {
-				for _, b := range l[size-1-k] {
-					for _, f := range binary {
-						of = append(of, f(a, b))
-					}
-				}
-			}
-		}
-		l = append(l, of)
-	}
-	return l
-}
 
 func v(name string) api.Expr { return api.Expr{Op: api.Var, Name: name} }
 
@@ -72,7 +49,7 @@ func TestAllSmallExpressions(t *testing.T) {
 			return api.Expr{Op: api.Prim, Name: "+", L: []api.Expr{e, v("x")}}
 		},
 	}
-	for _, l := range grow(5, []api.Expr{v("x"), v("y"), v("k"), {Op: api.Int, N: 1}, {Op: api.Con, Name: "C"}}, unary, shapes()) {
+	for _, l := range exprs.Grow(5, []api.Expr{v("x"), v("y"), v("k"), {Op: api.Int, N: 1}, {Op: api.Con, Name: "C"}}, unary, shapes()) {
 		for _, e := range l {
 			n.holdExpr(t, p, known, e)
 			n.holdExpr(t, p, known, fn(e, "x", "y"))
