@@ -26,3 +26,19 @@ func Grow(n int, leaves []api.Expr, unary []func(api.Expr) api.Expr, binary []fu
 	}
 	return l
 }
+
+// Endless is what the form makes of an expression, with itself in place of that one.
+func Endless(form func(api.Expr) api.Expr) api.Expr {
+	e := form(api.Expr{})
+	for i, part := range e.L {
+		if part.Op == 0 {
+			e.L[i] = e
+		}
+	}
+	for i, a := range e.Alts {
+		if a.E.Op == 0 {
+			e.Alts[i].E = e
+		}
+	}
+	return e
+}

@@ -37,3 +37,19 @@ func TestGrow(t *testing.T) {
 		}
 	}
 }
+
+func TestEndless(t *testing.T) {
+	leaf := api.Expr{Op: api.Int, N: 7}
+	part := exprs.Endless(func(e api.Expr) api.Expr {
+		return api.Expr{Op: api.App, L: []api.Expr{leaf, e}}
+	})
+	alt := exprs.Endless(func(e api.Expr) api.Expr {
+		return api.Expr{Op: api.Case, L: []api.Expr{leaf}, Alts: []api.Alt{{E: leaf}, {E: e}}}
+	})
+	for range 1000 {
+		if part.Op != api.App || part.L[0].N != 7 || alt.Op != api.Case || alt.L[0].N != 7 || alt.Alts[0].E.N != 7 {
+			t.Fatal("it ends")
+		}
+		part, alt = part.L[1], alt.Alts[1].E
+	}
+}

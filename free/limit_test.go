@@ -8,6 +8,7 @@ import (
 	"testing"
 
 	"gristmill/api"
+	"gristmill/exprs"
 	"gristmill/free"
 	"gristmill/syn"
 )
@@ -151,18 +152,7 @@ func TestVeryDeep(t *testing.T) {
 // endless is expressions that have themselves as a part, or parts at so many places that there is no end to it.
 func endless() (l []api.Expr) {
 	for _, form := range forms() {
-		e := form(api.Expr{})
-		for i, part := range e.L {
-			if part.Op == 0 {
-				e.L[i] = e
-			}
-		}
-		for i, a := range e.Alts {
-			if a.E.Op == 0 {
-				e.Alts[i].E = e
-			}
-		}
-		l = append(l, e)
+		l = append(l, exprs.Endless(form))
 	}
 	many := v("x")
 	for range 100 {

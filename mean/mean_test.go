@@ -7,11 +7,12 @@ import (
 	"gristmill/api"
 	"gristmill/mean"
 	"gristmill/obs"
+	"gristmill/programs"
 	"gristmill/syn"
 )
 
 // lists is data that the programs of the tests have.
-const lists = "(data L a (C a (L a)) N) (data P a b (P a b)) (data B a (B a)) "
+const lists = programs.Lists
 
 func read(t *testing.T, s string) api.Program {
 	t.Helper()
