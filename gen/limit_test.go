@@ -7,7 +7,6 @@ import (
 	"testing"
 
 	"gristmill/api"
-	"gristmill/gen"
 	"gristmill/grin"
 	"gristmill/lift"
 	"gristmill/mean"
@@ -347,35 +346,28 @@ func chains(t *testing.T, n, more int) api.Program {
 }
 
 func TestErrMany(t *testing.T) {
-	least := sizeOf(generated(t, chains(t, 0, 1)))
-	ofChain, ofOne := sizeOf(generated(t, chains(t, 1, 1)))-least, sizeOf(generated(t, chains(t, 0, 2)))-least
-	if ofChain < 5000 || ofOne < 50 || ofOne > 100 {
+	sizeOfChains := func(n, more int) int { return sizeOf(generated(t, chains(t, n, more))) }
+	least := sizeOfChains(2, 1)
+	ofChain, ofOne := sizeOfChains(3, 1)-least, sizeOfChains(2, 2)-least
+	want := func(n, more int) int { return least + (n-2)*ofChain + (more-1)*ofOne }
+	if sizeOfChains(7, 40) != want(7, 40) {
 		t.Fatal(ofChain, ofOne)
 	}
-	n := (api.MaxCode - least) / ofChain
-	if got := sizeOf(generated(t, chains(t, n-1, 1))); got > api.MaxCode || got < api.MaxCode*9/10 {
+	// As many as there may be, as near as it is come to, and one more.
+	n := (api.MaxCode-least)/ofChain + 2
+	more := (api.MaxCode-want(n, 1))/ofOne + 1
+	if want(n, more) > api.MaxCode || want(n, more) < api.MaxCode-ofOne || ofOne > 100 || more > 129 {
+		t.Fatal(n, more, ofOne)
+	}
+	if got := sizeOfChains(n, more); got != want(n, more) {
 		t.Error(got)
 	}
-	full, many := 0, 0
-	for _, n := range []int{n - 1, n, n + 1} {
-		for _, more := range []int{1, 40, 80, 130} {
-			p := chains(t, n, more)
-			if err := scope.Check(p); err != nil {
-				t.Fatal(err)
-			}
-			g, err := gen.Gen(p)
-			switch {
-			case err == nil && sizeOf(g) <= api.MaxCode:
-				full = max(full, sizeOf(g))
-			case err == api.ErrMany && len(g.Funcs) == 0:
-				many++
-			default:
-				t.Error(n, more, sizeOf(g), err)
-			}
+	for _, x := range [][2]int{{n, more + 1}, {n + 1, 1}, {n + 2, 130}} {
+		p := chains(t, x[0], x[1])
+		if err := scope.Check(p); err != nil {
+			t.Fatal(err)
 		}
-	}
-	if full < api.MaxCode-ofOne*50 || many < 2 {
-		t.Error(full, many)
+		wantError(t, p, api.ErrMany)
 	}
 }
 
